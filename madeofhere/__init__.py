@@ -1,0 +1,1 @@
+"""Madeofhere: where a thing was made, decided for all prices within bounds."""
