@@ -107,8 +107,9 @@ class ModuleLevelTest(unittest.TestCase):
                     continue
                 self.assertTrue(node.module.startswith("madeofhere."), node.module)
                 home = trees()[node.module.split(".")[1]]
-                defined = [told for top in home.body if not isinstance(top, ast.ImportFrom)
-                           for told in bound_names(top) + [n for t in getattr(top, "targets", []) for n in bound_names(t)]]
+                tops = [top for top in home.body if not isinstance(top, ast.ImportFrom)]
+                places = [place for top in tops for place in [top] + getattr(top, "targets", [])]
+                defined = [told for place in places for told in bound_names(place)]
                 self.assertIn(alias.name, defined)
 
     def test_no_name_is_bound_twice(self):
