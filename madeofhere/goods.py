@@ -1,7 +1,6 @@
 """Goods: what is one, and the THINGS in it by their numbers."""
 
 from madeofhere.errors import BadGood
-from madeofhere.kinds import is_one_of, is_row_of, is_within
 
 # Where the parts of a THING stand in it.
 MAKING = 0
@@ -19,111 +18,106 @@ MOST_STEPS = 4
 MOST_MOVES = 3
 
 
-def is_made(thing):
-    """Whether it is a tuple that has "made" first, whatever else is wrong with it."""
-    return isinstance(thing, tuple) and len(thing) > 0 and is_one_of(thing[MAKING], ("made",))
+# Every call of this package looks over a whole GOOD. So, to be quick, the functions from here to look_over ask on the
+# spot of what kind a value is; they ask it first, so that no value is asked whether it is equal.
 
 
 def is_rule(value):
     """Whether any value is a RULE."""
-    if not is_row_of(value, 3):
+    if not isinstance(value, tuple) or len(value) != 3:
         return False
     share, up, down = value
-    return is_within(share, 0, MOST_SHARE) and is_one_of(up, ("whole", "own")) and is_one_of(down, ("own", "none"))
+    if not isinstance(share, int) or isinstance(share, bool) or not 0 <= share <= MOST_SHARE:
+        return False
+    if not isinstance(up, str) or not isinstance(down, str):
+        return False
+    return (up == "whole" or up == "own") and (down == "own" or down == "none")
 
 
-def parts_in(thing):
-    """The PARTS of a THING; a raw one has none."""
-    return thing[PARTS] if is_made(thing) else ()
+def _need_bounds(number, land, low, high):
+    """Refuse any values that can not be the LAND, LOW and HIGH of the THING with this number."""
+    if not isinstance(land, str) or (land != "here" and land != "away"):
+        raise BadGood(number, "land")
+    if not isinstance(low, int) or isinstance(low, bool) or not 0 <= low <= MOST_PRICE:
+        raise BadGood(number, "low")
+    if not isinstance(high, int) or isinstance(high, bool) or not low <= high <= MOST_PRICE:
+        raise BadGood(number, "high")
 
 
-def is_moving(thing):
-    """Whether the price of a THING has more than one value."""
-    return thing[LOW] < thing[HIGH]
+def _need_making(number, rule, parts):
+    """Refuse any values that can not be the RULE and PARTS of the THING with this number."""
+    if not is_rule(rule):
+        raise BadGood(number, "rule")
+    if not isinstance(parts, tuple) or not 1 <= len(parts) <= MOST_PARTS:
+        raise BadGood(number, "parts")
 
 
-def _has_form(thing):
-    if is_made(thing):
-        return len(thing) == 6
-    return is_row_of(thing, 4) and is_one_of(thing[MAKING], ("raw",))
+def _look_at(thing, whole, found, wholes, made, moving):
+    """Put any value as the next THING into the lists that look_over tells, and behind it what is in it."""
+    number = len(found)
+    word = thing[MAKING] if isinstance(thing, tuple) and len(thing) > 0 else None
+    is_step = isinstance(word, str) and word == "made"
+    if is_step:
+        made.append(number)
+    if number == MOST_THINGS or len(made) > MOST_STEPS:
+        raise BadGood(number, "many")
+    parts = ()
+    if is_step and len(thing) == 6:
+        _, land, low, high, rule, parts = thing
+        _need_bounds(number, land, low, high)
+        _need_making(number, rule, parts)
+    elif isinstance(word, str) and word == "raw" and len(thing) == 4:
+        _, land, low, high = thing
+        _need_bounds(number, land, low, high)
+    else:
+        raise BadGood(number, "form")
+    found.append(thing)
+    wholes.append(whole)
+    if low < high:
+        moving.append(number)
+    for part in parts:
+        _look_at(part, number, found, wholes, made, moving)
 
 
-def _are_parts(value):
-    return isinstance(value, tuple) and 1 <= len(value) <= MOST_PARTS
+def look_over(good):
+    """Of a GOOD the lists, by their numbers, of its THINGS and of the numbers of those that these are PARTS of.
 
-
-def _fault(thing):
-    """The word for what is wrong with any value as a THING by itself, or None."""
-    if not _has_form(thing):
-        return "form"
-    if not is_one_of(thing[LAND], ("here", "away")):
-        return "land"
-    if not is_within(thing[LOW], 0, MOST_PRICE):
-        return "low"
-    if not is_within(thing[HIGH], thing[LOW], MOST_PRICE):
-        return "high"
-    if is_made(thing) and not is_rule(thing[RULE]):
-        return "rule"
-    if is_made(thing) and not _are_parts(thing[PARTS]):
-        return "parts"
-    return None
-
-
-def _are_many(found):
-    """Whether there are too many THINGS, or too many of them are made."""
-    return len(found) > MOST_THINGS or len([thing for thing in found if is_made(thing)]) > MOST_STEPS
-
-
-def _things_in(thing):
-    """The list of all THINGS in any value, in the order of their numbers, each right by itself."""
-    found = []
-    waiting = [thing]
-    while waiting:
-        first, *rest = waiting
-        found.append(first)
-        if _are_many(found):
-            raise BadGood(len(found) - 1, "many")
-        part = _fault(first)
-        if part is not None:
-            raise BadGood(len(found) - 1, part)
-        waiting = [*parts_in(first), *rest]
-    return found
-
-
-def _fault_together(found):
-    """The word for what is wrong with all THINGS of a value together, or None."""
-    if not is_made(found[0]):
-        return "raw"
-    if len([thing for thing in found if is_moving(thing)]) > MOST_MOVES:
-        return "moves"
-    if max([thing[LOW] for thing in found]) == 0:
-        return "nothing"
-    return None
-
-
-def things(good):
-    """The tuple of all THINGS in a GOOD by their numbers."""
-    found = _things_in(good)
-    part = _fault_together(found)
-    if part is not None:
-        raise BadGood(0, part)
-    return tuple(found)
+    Behind these two the lists of the numbers of those that are made, and of those with a LOW less than their HIGH.
+    """
+    found, wholes, made, moving = [], [], [], []
+    _look_at(good, None, found, wholes, made, moving)
+    if len(made) == 0:
+        raise BadGood(0, "raw")
+    if len(moving) > MOST_MOVES:
+        raise BadGood(0, "moves")
+    for thing in found:
+        if thing[LOW] > 0:
+            return found, wholes, made, moving
+    raise BadGood(0, "nothing")
 
 
 def need_good(thing):
     """The very value, if it is a GOOD."""
-    things(thing)
+    look_over(thing)
     return thing
+
+
+def things(good):
+    """The tuple of all THINGS in a GOOD by their numbers."""
+    found, _, _, _ = look_over(good)
+    return tuple(found)
 
 
 def steps(good):
     """The ascending tuple of the numbers of the THINGS that are made."""
-    return tuple([number for number, thing in enumerate(things(good)) if is_made(thing)])
+    _, _, made, _ = look_over(good)
+    return tuple(made)
 
 
 def moves(good):
     """The ascending tuple of the numbers of the THINGS with a LOW less than their HIGH."""
-    return tuple([number for number, thing in enumerate(things(good)) if is_moving(thing)])
+    _, _, _, moving = look_over(good)
+    return tuple(moving)
 
 
 def lows(good):
@@ -134,20 +128,3 @@ def lows(good):
 def highs(good):
     """The PRICES that are all HIGH."""
     return tuple([(thing[HIGH], 1) for thing in things(good)])
-
-
-def _how_many(thing):
-    return 1 + sum([_how_many(part) for part in parts_in(thing)])
-
-
-def part_numbers(found):
-    """For each THING of those in a GOOD the tuple of the numbers of its own PARTS."""
-    numbers = []
-    for number, thing in enumerate(found):
-        inside = []
-        at = number + 1
-        for part in parts_in(thing):
-            inside.append(at)
-            at = at + _how_many(part)
-        numbers.append(tuple(inside))
-    return tuple(numbers)

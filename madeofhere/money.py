@@ -3,16 +3,18 @@
 from math import gcd, lcm
 
 from madeofhere.errors import BadPrices
-from madeofhere.goods import HIGH, LOW, things
-from madeofhere.kinds import is_row_of, is_whole
+from madeofhere.goods import HIGH, LOW
 
 
-def is_fraction(value):
-    """Whether any value is a FRACTION."""
-    if not is_row_of(value, 2):
+def is_fraction(value, least, most):
+    """Whether any value is a FRACTION from the least to the most, which are integers."""
+    # It is asked of each price in every call: so what kind the value is, is asked on the spot, and not of kinds.py.
+    if not isinstance(value, tuple) or len(value) != 2:
         return False
     part, of = value
-    return is_whole(part) and is_whole(of) and of >= 1 and gcd(part, of) == 1
+    if not isinstance(part, int) or isinstance(part, bool) or not isinstance(of, int) or isinstance(of, bool):
+        return False
+    return (of == 1 or (of > 1 and gcd(part, of) == 1)) and least * of <= part <= most * of
 
 
 def lowest_terms(part, of):
@@ -21,21 +23,12 @@ def lowest_terms(part, of):
     return part // shared, of // shared
 
 
-def is_price(value, thing):
-    """Whether any value is a FRACTION from the LOW to the HIGH of a THING."""
-    if not is_fraction(value):
-        return False
-    part, of = value
-    return thing[LOW] * of <= part <= thing[HIGH] * of
-
-
-def need_prices(good, prices):
-    """The very value, if it is PRICES of the GOOD."""
-    found = things(good)
-    if not is_row_of(prices, len(found)):
+def need_prices(found, prices):
+    """The very value, if it is PRICES of the GOOD with these THINGS."""
+    if not isinstance(prices, tuple) or len(prices) != len(found):
         raise BadPrices(None)
     for number, thing in enumerate(found):
-        if not is_price(prices[number], thing):
+        if not is_fraction(prices[number], thing[LOW], thing[HIGH]):
             raise BadPrices(number)
     return prices
 
@@ -43,11 +36,18 @@ def need_prices(good, prices):
 def common_unit(prices):
     """The least OF with which all of the prices can be written."""
     unit = 1
-    for price in prices:
-        unit = lcm(unit, price[1])
+    for _, of in prices:
+        unit = lcm(unit, of)
     return unit
 
 
 def in_units(prices, unit):
     """The list of the PARTS of the prices when each has the unit as its OF."""
     return [part * (unit // of) for part, of in prices]
+
+
+def fractions_of(amounts, unit):
+    """The tuple of the FRACTIONS that the integers are, each divided by the unit."""
+    if unit == 1:
+        return tuple([(amount, 1) for amount in amounts])
+    return tuple([lowest_terms(amount, unit) for amount in amounts])

@@ -2,11 +2,13 @@
 
 import copy
 import itertools
+import random
 import unittest
 
 from madeofhere.counts import costs, counted, is_of_here, owns, portion, words_at
 from madeofhere.errors import BadGood, BadPrices, MakeError
 from madeofhere.goods import highs, lows, things
+from tests.drawing import drawn_goods, drawn_prices, goods_at_the_bounds, lonely_goods
 from tests.samples import (
     CART, GIFT, LAMP, ODD, TRUCK, Agreeing, Raising, chain, made, price_grid, ratio, raw, slow_sums, told, wide,
 )
@@ -201,6 +203,13 @@ class AgainstTheWordsOfTheDocumentTest(SumsTest):
             part = made([raw(2, 2), raw(3, 3, other)], 1, 1, one, inner)
             good = made([raw(1, 1, one), part, raw(2, 2, "away")], 1, 1, other, outer)
             self.check_slowly(good, lows(good))
+
+    def test_drawn_goods_at_drawn_prices(self):
+        chance = random.Random(3)
+        for good in drawn_goods(1, 12, 9, 10) + goods_at_the_bounds(2, 12) + lonely_goods():
+            bounds = [thing[2:4] for thing in things(good)]
+            for prices in lows(good), highs(good), drawn_prices(chance, bounds), drawn_prices(chance, bounds):
+                self.check_slowly(good, prices)
 
 
 class KindsTest(unittest.TestCase):
