@@ -19,3 +19,13 @@ def is_one_of(value, words):
 def is_row_of(value, many):
     """Whether it is a tuple of so many things."""
     return isinstance(value, tuple) and len(value) == many
+
+
+def are_words(value, many):
+    """Whether it is a tuple of 1 or 0 for each of so many STEPS."""
+    if not is_row_of(value, many):
+        return False
+    for word in value:
+        if not is_within(word, 0, 1):
+            return False
+    return True

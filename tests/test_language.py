@@ -172,6 +172,22 @@ class ValuesTest(unittest.TestCase):
                 self.assertIsInstance(node, ast.FunctionDef, name)
                 self.assertRegex(ast.unparse(decorator), r"\A(property|staticmethod|classmethod|\w+\.setter)\Z")
 
+    def test_no_generator_expressions_and_no_sorting_in_place(self):
+        # A class of the package has __eq__ and __len__.
+        self.assertEqual(nodes(ast.GeneratorExp), [])
+        for name, node in nodes(ast.Attribute):
+            self.assertNotEqual(node.attr, "sort", (name, node.lineno))
+
+    def test_double_underscore_methods(self):
+        may = {"__init__", "__eq__", "__len__", "__call__", "__contains__", "__enter__", "__exit__"}
+        for name, node in nodes(ast.FunctionDef):
+            if node.name.startswith("__"):
+                self.assertIn(node.name, may, (name, node.lineno))
+            if node.name == "__exit__":
+                for row in node.body:
+                    self.assertIsInstance(row, ast.Assign, (name, row.lineno))
+                    self.assertIsInstance(row.value, ast.Attribute, (name, row.lineno))
+
     def test_handlers_name_own_errors_or_those_that_may_be_caught(self):
         own = {node.name for name, node in nodes(ast.ClassDef)}
         may = own | {"KeyError", "ZeroDivisionError", "StopIteration", "ValueError", "LookupError", "IndexError"}

@@ -4,7 +4,12 @@ import sys
 import time
 
 from madeofhere.counts import costs, counted, is_of_here, owns, portion, words_at
+from madeofhere.files import File
 from madeofhere.goods import things
+from madeofhere.pieces import coming, corners, do_come, forms, prices_for
+from madeofhere.portions import greatest_portion, least_portion, most_ever, most_sure, prices_of
+from madeofhere.sures import check_sure, do_bar, is_never, is_sure, sure_paper, weights_for
+from tests.slow import all_words, with_share
 
 G = ("made", "here", 0, 5, (50, "whole", "own"),
      (("raw", "here", 1, 3), ("made", "away", 2, 2, (40, "own", "none"), (("raw", "away", 4, 4),))))
@@ -40,6 +45,65 @@ def show_counts():
         print(f"  {function.__name__:<16}{seconds(3000, function, H, Q):8.3f} s   wanted: at most 0.08 s")
 
 
+def micros(many, rows):
+    """Microseconds for each call, of calls with each of these rows of arguments in turn."""
+    took = seconds(many, lambda: [function(*told) for function, *told in rows])
+    return took * 10 ** 6 / many / len(rows)
+
+
+def call_rows(good):
+    """For each function the calls that are timed, and what is wanted of one with a small GOOD, in microseconds."""
+    words = all_words(good)
+    weights = [(one, weights_for(good, one) or (1,) * len(forms(good, one))) for one in words]
+    yield "forms", 30, [(forms, good, one) for one in words]
+    yield "corners", 200, [(corners, good, one) for one in words]
+    for function in (do_come, prices_for, weights_for):
+        yield function.__name__, 60, [(function, good, one) for one in words]
+    yield "do_bar", 60, [(do_bar, good, *row) for row in weights]
+    for function in (coming, is_sure, is_never, sure_paper):
+        yield function.__name__, 300, [(function, good)]
+    sure = with_share(good, most_sure(good))
+    yield "sure_paper, sure", 300, [(sure_paper, sure)]
+    yield "check_sure", 300, [(check_sure, good, sure_paper(good))]
+    yield "check_sure, sure", 300, [(check_sure, sure, sure_paper(sure))]
+    for function in (least_portion, greatest_portion, most_sure, most_ever):
+        yield function.__name__, 1000, [(function, good)]
+    yield "prices_of", 1000, [(prices_of, good, (part, 7)) for part in (1, 2, 3, 4, 5, 6)]
+
+
+def look(file):
+    """All that a file tells."""
+    return file(), file.words(), file.portion(), file.good, file.prices, len(file), file.words() in file
+
+
+def live_rows(good):
+    """The same of deeds of a File that are taken back at once, with all that it tells behind both."""
+    number, thing = [(at, thing) for at, thing in enumerate(things(good)) if thing[2] < thing[3]][0]
+
+    def price(file):
+        file.price(number, (thing[3], 1))
+        look(file)
+        file.back()
+        look(file)
+
+    def rule(file):
+        file.rule(0, (40, "own", "own"))
+        look(file)
+        file.back()
+        look(file)
+
+    yield "price, and back", 100, [(price, File(good))]
+    yield "rule, and back", 100, [(rule, File(good))]
+
+
+def show_sheets():
+    print("microseconds for each call: with G, wanted of it (a little more may do), with H")
+    small, great = ([*call_rows(good), *live_rows(good)] for good in (G, H))
+    for (name, wanted, rows), (_, _, others) in zip(small, great):
+        print(f"  {name:<18}{micros(200, rows):8.1f}{wanted:8}{micros(50, others):10.1f}")
+
+
 if __name__ == "__main__":
     print(f"CPython {sys.version.split()[0]}")
     show_counts()
+    show_sheets()
