@@ -4,7 +4,7 @@ from madeofhere.goods import LAND, MAKING, RULE, look_over
 from madeofhere.money import common_unit, fractions_of, in_units, lowest_terms, need_prices
 
 
-def _sums(found, wholes, amounts):
+def sums_of(found, wholes, amounts):
     """The lists of the COST, the OWN and what COUNTS of each THING, and of the WORDS, at whole amounts as prices."""
     spent = list(amounts)
     own = [amount if thing[LAND] == "here" else 0 for amount, thing in zip(amounts, found)]
@@ -31,12 +31,18 @@ def _sums(found, wholes, amounts):
     return spent, own, counting, words
 
 
+def here_by_sums(found, wholes, prices):
+    """Whether the GOOD with these THINGS is of here at PRICES."""
+    _, _, _, words = sums_of(found, wholes, in_units(prices, common_unit(prices)))
+    return words[0] == 1
+
+
 def _sums_at(good, prices):
     """The sums at PRICES in one unit, so that only integers are added and compared; behind them that unit."""
     found, wholes, _, _ = look_over(good)
     need_prices(found, prices)
     unit = common_unit(prices)
-    spent, own, counting, words = _sums(found, wholes, in_units(prices, unit))
+    spent, own, counting, words = sums_of(found, wholes, in_units(prices, unit))
     return spent, own, counting, words, unit
 
 

@@ -1,27 +1,11 @@
 """A live file: a GOOD and its PRICES now, the deeds that made them so, and the way back."""
 
+from madeofhere.building import put, with_thing
 from madeofhere.counts import portion, words_at
 from madeofhere.errors import BadFraction, BadGood, BadNumber, Nothing
-from madeofhere.goods import HIGH, LOW, PARTS, RULE, is_rule, look_over, lows, things
-from madeofhere.kinds import are_words, is_whole, is_within
+from madeofhere.goods import HIGH, LOW, RULE, is_rule, look_over, lows, need_number, things
+from madeofhere.kinds import are_words, is_whole
 from madeofhere.money import is_fraction
-
-
-def _put(row, at, value):
-    """A tuple with another value at a place."""
-    return (*row[:at], value, *row[at + 1:])
-
-
-def _with_rule(found, wholes, number, fresh):
-    """A GOOD with another RULE of one of its THINGS; all that this is within is made anew, too."""
-    thing = _put(found[number], RULE, fresh)
-    while number > 0:
-        whole = wholes[number]
-        # Its place among the PARTS: as many of them have a number less than its own.
-        at = wholes[:number].count(whole)
-        thing = _put(found[whole], PARTS, _put(found[whole][PARTS], at, thing))
-        number = whole
-    return thing
 
 
 class File:
@@ -54,20 +38,20 @@ class File:
     def price(self, number, fraction):
         """The price of a THING becomes another one."""
         found = things(self.good)
-        if not is_within(number, 0, len(found) - 1):
-            raise BadNumber(number)
+        need_number(number, len(found))
         if not is_fraction(fraction, found[number][LOW], found[number][HIGH]):
             raise BadFraction(fraction)
-        self._do(("price", number, fraction), self.good, _put(self.prices, number, fraction))
+        self._do(("price", number, fraction), self.good, put(self.prices, number, fraction))
 
     def rule(self, step, fresh):
         """The RULE of a STEP, by its number among the STEPS, becomes another one."""
         found, wholes, made, _ = look_over(self.good)
-        if not is_within(step, 0, len(made) - 1):
-            raise BadNumber(step)
+        need_number(step, len(made))
         if not is_rule(fresh):
             raise BadGood(made[step], "rule")
-        self._do(("rule", step, fresh), _with_rule(found, wholes, made[step], fresh), self.prices)
+        number = made[step]
+        good = with_thing(found, wholes, number, put(found[number], RULE, fresh))
+        self._do(("rule", step, fresh), good, self.prices)
 
     def __call__(self):
         """Whether the GOOD is of here now."""

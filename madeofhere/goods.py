@@ -1,6 +1,7 @@
 """Goods: what is one, and the THINGS in it by their numbers."""
 
-from madeofhere.errors import BadGood
+from madeofhere.errors import BadGood, BadNumber
+from madeofhere.kinds import is_within
 
 # Where the parts of a THING stand in it.
 MAKING = 0
@@ -100,6 +101,13 @@ def need_good(thing):
     """The very value, if it is a GOOD."""
     look_over(thing)
     return thing
+
+
+def need_number(value, many):
+    """The very value, if it is a number of one of so many THINGS, or STEPS."""
+    if not is_within(value, 0, many - 1):
+        raise BadNumber(value)
+    return value
 
 
 def things(good):

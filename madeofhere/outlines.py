@@ -8,7 +8,7 @@ the PRICES where these prices are X, Y, Z divided by OF.
 from madeofhere.errors import BadWords
 from madeofhere.goods import HIGH, LAND, LOW, MAKING, RULE, look_over
 from madeofhere.kinds import are_words
-from madeofhere.money import lowest_terms
+from madeofhere.money import common_unit, in_units, lowest_terms
 
 UNITS = ((1, 0, 0, 0), (0, 1, 0, 0), (0, 0, 1, 0))
 ZERO = (0, 0, 0, 0)
@@ -18,10 +18,15 @@ class Outline:
     """What look_over tells of a GOOD, and the COST and the OWN of each THING by its number, as sums.
 
     To the OWN belongs what COUNTS of PARTS that are raw, but nothing yet of those that are made: that hangs on WORDS.
+
+    Where the GOOD stands beside another one, so many FORMS of STEPS of that one stand ahead of its own; and the prices
+    in the sums are those of the THINGS of order, its moves(good) in the order of the same ones in that other GOOD.
     """
 
-    def __init__(self, good):
-        self.found, self.wholes, self.made, self.moving = look_over(good)
+    def __init__(self, good, ahead=0, order=None):
+        self.found, self.wholes, self.made, moving = look_over(good)
+        self.moving = moving if order is None else order
+        self.ahead = ahead
         spent = [(0, 0, 0, thing[LOW]) for thing in self.found]
         for unit, number in zip(UNITS, self.moving):
             spent[number] = unit
@@ -55,6 +60,14 @@ def worth(amount, place):
     a, b, c, rest = amount
     x, y, z, of = place
     return a * x + b * y + c * z + rest * of
+
+
+def place_of(outline, prices):
+    """The place that PRICES are."""
+    chosen = [prices[number] for number in outline.moving]
+    unit = common_unit(chosen)
+    x, y, z = (*in_units(chosen, unit), 0, 0, 0)[:3]
+    return x, y, z, unit
 
 
 def prices_at(outline, place):
@@ -92,7 +105,7 @@ def with_word(outline, owns, number, word):
     return fuller
 
 
-def _forms_of_bounds(outline):
+def bound_forms(outline):
     """The list of the FORMS of the THINGS of which LOW is less than HIGH."""
     rows = []
     for (a, b, c, _), number in zip(UNITS, outline.moving):
@@ -102,8 +115,8 @@ def _forms_of_bounds(outline):
     return rows
 
 
-def all_forms(outline, words):
-    """The list of all FORMS of WORDS, sums."""
+def step_forms(outline, words):
+    """The list of the FORMS of the STEPS, sums."""
     owns = outline.own
     rows = []
     # What COUNTS of the STEPS within a STEP is told ahead of it, from the last one on.
@@ -112,14 +125,33 @@ def all_forms(outline, words):
         rows.append(form if word == 1 else mixed(form, -1, ZERO, 0))
         owns = with_word(outline, owns, number, word)
     rows.reverse()
-    return _forms_of_bounds(outline) + rows
+    return rows
+
+
+def all_forms(outline, words):
+    """The list of all FORMS of WORDS, sums."""
+    return bound_forms(outline) + step_forms(outline, words)
+
+
+def told_forms(outline, rows):
+    """The tuple of FORMS as they are told: what the prices of moves(good) are taken times, and the rest."""
+    many = len(outline.moving)
+    return tuple([(*row[:many], row[3]) for row in rows])
 
 
 def form_number(outline, step):
     """The number of the FORM of a STEP among all FORMS."""
-    return 2 * len(outline.moving) + step
+    return 2 * len(outline.moving) + outline.ahead + step
 
 
 def zero_bits(outline, words):
     """The bits of the FORMS of the STEPS with the word 0, the bit of a FORM being 1 << its number."""
     return sum([1 << form_number(outline, step) for step, word in enumerate(words) if word == 0])
+
+
+def every_words(outline):
+    """The ascending list of all tuples of 1 or 0 for each STEP."""
+    rows = [()]
+    for _ in outline.made:
+        rows = [(*row, word) for row in rows for word in (0, 1)]
+    return rows

@@ -1,15 +1,13 @@
 """The PIECES of a GOOD: at which PRICES it has which WORDS, told by FORMS and by CORNERS."""
 
-from madeofhere.outlines import Outline, all_forms, need_words, prices_at, zero_bits
+from madeofhere.outlines import Outline, all_forms, need_words, prices_at, told_forms, zero_bits
 from madeofhere.sheets import coming_sheets, corners_of, has_inside, middle_prices, places_in_one_unit
 
 
 def forms(good, words):
     """The tuple of the FORMS of WORDS, each a tuple of what the prices of moves(good) are taken times, and the rest."""
     outline = Outline(good)
-    rows = all_forms(outline, need_words(outline, words))
-    many = len(outline.moving)
-    return tuple([(*row[:many], row[3]) for row in rows])
+    return told_forms(outline, all_forms(outline, need_words(outline, words)))
 
 
 def corners(good, words):

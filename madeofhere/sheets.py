@@ -6,6 +6,7 @@ FORM leaves of a SHEET come from those of the SHEET: some stay, and new ones sta
 
 from math import gcd, lcm
 
+from madeofhere.building import put
 from madeofhere.goods import HIGH, LOW
 from madeofhere.outlines import (
     ZERO, added, all_forms, form_number, mixed, prices_at, told_here, with_word, worth,
@@ -107,13 +108,29 @@ def _grown(outline, sheet):
     )
 
 
-def coming_sheets(outline, first):
-    """The list of the sheets of all WORDS of the STEPS from the first one on that come."""
-    sheets = [Sheet((), outline.own, outer_corners(outline), 0)]
+def sheets_between(outline, first, corners, zeros):
+    """The list of the sheets of all WORDS of the STEPS from the first one on that come between these corners.
+
+    The FORMS of the bits of zeros are above 0 where WORDS come, too.
+    """
+    sheets = [Sheet((), outline.own, corners, zeros)]
     for _ in range(len(outline.made) - first):
         fuller = [one for sheet in sheets for one in _grown(outline, sheet)]
         sheets = [sheet for sheet in fuller if has_inside(sheet.corners, sheet.zeros)]
     return sheets
+
+
+def coming_sheets(outline, first):
+    """The list of the sheets of all WORDS of the STEPS from the first one on that come."""
+    return sheets_between(outline, first, outer_corners(outline), 0)
+
+
+def line_corners(outline, place, at):
+    """The corners of the LINE of a THING through a place: its two ends; at is where in the place its price stands."""
+    thing = outline.found[outline.moving[at]]
+    low = put(place, at, thing[LOW] * place[3])
+    high = put(place, at, thing[HIGH] * place[3])
+    return [(low, 1 << (2 * at)), (high, 1 << (2 * at + 1))]
 
 
 def places_in_one_unit(corners):
@@ -128,9 +145,14 @@ def places_in_one_unit(corners):
     return rows
 
 
-def middle_prices(outline, corners):
-    """The PRICES in the middle of corners: the mean of them."""
+def middle_place(corners):
+    """The place in the middle of corners: the mean of them."""
     total = ZERO
     for place in places_in_one_unit(corners):
         total = added(total, place)
-    return prices_at(outline, total)
+    return total
+
+
+def middle_prices(outline, corners):
+    """The PRICES in the middle of corners."""
+    return prices_at(outline, middle_place(corners))

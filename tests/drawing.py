@@ -38,6 +38,11 @@ def drawn_good(chance, steps, moving, things=6, most=6, shares=SHARES):
     for at in range(many):
         low = chance.choice((0, chance.randint(0, most - 1))) if at != rich else chance.randint(1, most - 1)
         bounds.append((low, chance.randint(low + 1, most) if at in moved else low))
+    return good_of(chance, parts, bounds, shares)
+
+
+def good_of(chance, parts, bounds, shares=SHARES):
+    """A GOOD with these parts of its steps and these bounds of its THINGS, with drawn LANDS and RULES."""
     left = iter(bounds)
 
     def build(step):
@@ -57,6 +62,76 @@ def drawn_goods(seed, rounds, most=6, things=6):
     chance = random.Random(seed)
     kinds = [(steps, moving) for steps in (1, 2, 3, 4) for moving in (0, 1, 2, 3)]
     return [drawn_good(chance, *kind, chance.randint(2, things), most) for _ in range(rounds) for kind in kinds]
+
+
+def lively(chance, good):
+    """The good with other SHARES: those that its steps have at drawn prices, or one more, so that words turn there."""
+
+    def build(thing):
+        price = chance.randint(thing[2], thing[3])
+        own = price if thing[1] == "here" else 0
+        if thing[0] == "raw":
+            return thing, price, own
+        rows = [build(part) for part in thing[5]]
+        cost = price + sum(row[1] for row in rows)
+        own += sum(row[2] for row in rows)
+        share = min(100, (100 * own // cost if cost else 50) + chance.choice((0, 0, 1)))
+        rule = (share, *thing[4][1:])
+        here = 100 * own >= share * cost
+        counts = (cost if rule[1] == "whole" else own) if here else (own if rule[2] == "own" else 0)
+        return (*thing[:4], rule, tuple(row[0] for row in rows)), cost, counts
+
+    return build(good)[0]
+
+
+def lively_goods(seed, rounds, most=6, things=6, kinds=None):
+    """GOODS of one to four steps of which none to three move, or of other such kinds, that turn within their bounds."""
+    chance = random.Random(seed)
+    kinds = kinds or [(steps, moving) for steps in (1, 2, 3, 4) for moving in (0, 1, 2, 3)]
+    return [lively(chance, drawn_good(chance, *kind, chance.randint(2, things), most))
+            for _ in range(rounds) for kind in kinds]
+
+
+def drawn_twin(chance, good, often=0.5):
+    """A TWIN with some other LANDS and RULES."""
+
+    def build(thing):
+        land = chance.choice(("here", "away")) if chance.random() < often else thing[1]
+        if thing[0] == "raw":
+            return ("raw", land, *thing[2:])
+        rule = thing[4]
+        if chance.random() < often:
+            share = min(100, max(0, rule[0] + chance.choice((-1, 1, 5, -7))))
+            rule = (share, chance.choice(("whole", "own")), chance.choice(("own", "none")))
+        return ("made", land, *thing[2:4], rule, tuple(build(part) for part in thing[5]))
+
+    return build(good)
+
+
+def rebuilt_twin(chance, good):
+    """A TWIN in which other THINGS are made of others."""
+    bounds = []
+
+    def look(thing):
+        bounds.append(thing[2:4])
+        for part in thing[5] if thing[0] == "made" else ():
+            look(part)
+
+    look(good)
+    while True:
+        parts = tree(chance, chance.randint(1, min(4, len(bounds) - 1)), len(bounds))
+        if len(parts) + sum(inside.count(None) for inside in parts.values()) == len(bounds):
+            return lively(chance, good_of(chance, parts, bounds))
+
+
+def drawn_pairs(seed, rounds, most=6, things=6, kinds=None):
+    """Lively GOODS, each with a TWIN: with few other words in it, with many, or of which other THINGS are made."""
+    chance = random.Random(seed)
+    rows = []
+    for good in lively_goods(seed, rounds, most, things, kinds):
+        other = chance.choice((0.1, 0.3, 0.6, None))
+        rows.append((good, rebuilt_twin(chance, good) if other is None else drawn_twin(chance, good, other)))
+    return rows
 
 
 def goods_at_the_bounds(seed, rounds):

@@ -2,6 +2,7 @@
 
 import itertools
 from fractions import Fraction
+from math import gcd, lcm
 
 from tests.samples import ratio, told
 
@@ -92,11 +93,56 @@ def form_value(form, point):
     return sum(number * price for number, price in zip(form, point)) + form[-1]
 
 
+def reduced(row, picked):
+    """A row without the columns that the picked ones are for, as integers; None if nothing of it is left."""
+    for column, other in picked:
+        if row[column]:
+            times, many = other[column], row[column]
+            row = [times * number - many * more for number, more in zip(row, other)]
+    shared = gcd(*row[:-1])
+    if shared == 0:
+        return None
+    shared = gcd(shared, row[-1])
+    return [number // shared for number in row]
+
+
+def solved(picked):
+    """The point at which rows are 0 of which each one has no column that those ahead of it are for."""
+    point = [Fraction(0)] * len(picked)
+    for column, row in reversed(picked):
+        point[column] = -Fraction(sum(number * price for number, price in zip(row, point)) + row[-1], 1) / row[column]
+    return tuple(point)
+
+
+def system_points(rows):
+    """The corners of where no row is below 0, by trying all choices of rows that are 0; it has to be bounded."""
+    rows = [[int(number) for number in row] for row in rows]
+    many = len(rows[0]) - 1
+    points = set()
+
+    def pick(start, picked):
+        if len(picked) == many:
+            points.add(solved(picked))
+            return
+        for at in range(start, len(rows)):
+            row = reduced(rows[at], picked)
+            if row is not None:
+                column = next(k for k in range(many) if row[k])
+                pick(at + 1, picked + [(column, row)])
+
+    pick(0, [])
+    return sorted(point for point in points if is_in_system(rows, point))
+
+
+def is_in_system(rows, point):
+    unit = lcm(*[price.denominator for price in point])
+    parts = [int(price * unit) for price in point] + [unit]
+    return all(sum(number * part for number, part in zip(row, parts)) >= 0 for row in rows)
+
+
 def slow_points(good, words):
     """The points of all corners, by trying all choices of forms that are 0."""
-    rows = slow_forms(good, words)
-    points = {meeting(some) for some in itertools.combinations(rows, len(moving(good)))} - {None}
-    return sorted(point for point in points if all(form_value(row, point) >= 0 for row in rows))
+    return system_points(slow_forms(good, words))
 
 
 def prices_of_point(good, point):

@@ -2,6 +2,8 @@
 
 import ast
 import builtins
+import copy
+import functools
 import pathlib
 import re
 import unittest
@@ -31,8 +33,19 @@ def texts():
     return {path.stem: path.read_text(encoding="utf-8") for path in sorted(PACKAGE.glob("*.py"))}
 
 
+@functools.cache
 def trees():
     return {name: ast.parse(text) for name, text in texts().items()}
+
+
+class Plain(ast.NodeTransformer):
+    """Puts a plain value in the place of each name of a function that is defined above."""
+
+    def __init__(self, above):
+        self.above = above
+
+    def visit_Name(self, node):
+        return ast.Constant(node.id) if node.id in self.above else node
 
 
 def nodes(kind):
@@ -94,7 +107,8 @@ class ModuleLevelTest(unittest.TestCase):
                     continue
                 self.assertIsInstance(node, MODULE_LEVEL, (name, node.lineno))
                 if isinstance(node, ast.Assign):
-                    ast.literal_eval(node.value)
+                    above = [one.name for one in tree.body[:at] if isinstance(one, ast.FunctionDef)]
+                    ast.literal_eval(Plain(above).visit(copy.deepcopy(node.value)))
 
     def test_imports(self):
         self.assertEqual(nodes(ast.Import), [])
