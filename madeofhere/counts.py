@@ -31,12 +31,6 @@ def sums_of(found, wholes, amounts):
     return spent, own, counting, words
 
 
-def here_by_sums(found, wholes, prices):
-    """Whether the GOOD with these THINGS is of here at PRICES."""
-    _, _, _, words = sums_of(found, wholes, in_units(prices, common_unit(prices)))
-    return words[0] == 1
-
-
 def _sums_at(good, prices):
     """The sums at PRICES in one unit, so that only integers are added and compared; behind them that unit."""
     found, wholes, _, _ = look_over(good)

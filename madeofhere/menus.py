@@ -1,10 +1,10 @@
 """MENUS: GOODS that may be meant, and what tells them from one another."""
 
-from madeofhere.counts import here_by_sums
+from madeofhere.counts import sums_of
 from madeofhere.errors import BadGood, BadMenu, BadPrices, BadSeen
 from madeofhere.goods import MOST_STEPS, look_over
 from madeofhere.kinds import is_row_of, is_within
-from madeofhere.money import need_prices
+from madeofhere.money import amounts_of, need_prices
 from madeofhere.outlines import Outline
 from madeofhere.sheets import middle_prices
 from madeofhere.twins import corners_apart, unlike_number
@@ -34,9 +34,11 @@ def need_menu(thing):
     return thing
 
 
-def _is_here(look, prices):
+def _is_here(look, amounts):
+    """Whether a GOOD that was looked over is of here, at whole amounts as prices."""
     found, wholes, _, _ = look
-    return here_by_sums(found, wholes, prices)
+    _, _, _, words = sums_of(found, wholes, amounts)
+    return words[0] == 1
 
 
 def _need_seen(found, seen):
@@ -58,15 +60,16 @@ def fitting_goods(menu, seen):
     _need_seen(looks[0][0], seen)
     fitting = list(range(len(looks)))
     for prices, word in seen:
-        fitting = [number for number in fitting if _is_here(looks[number], prices) == (word == 1)]
+        amounts = amounts_of(prices)
+        fitting = [number for number in fitting if _is_here(looks[number], amounts) == (word == 1)]
     return tuple(fitting)
 
 
 def here_by(menu, prices):
     """The ascending tuple of the numbers of the GOODS that are of here."""
     looks = _looks(menu)
-    need_prices(looks[0][0], prices)
-    return tuple([number for number, look in enumerate(looks) if _is_here(look, prices)])
+    amounts = amounts_of(need_prices(looks[0][0], prices))
+    return tuple([number for number, look in enumerate(looks) if _is_here(look, amounts)])
 
 
 def _outlines(menu):

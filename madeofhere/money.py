@@ -46,6 +46,11 @@ def in_units(prices, unit):
     return [part * (unit // of) for part, of in prices]
 
 
+def amounts_of(prices):
+    """The list of the prices as integers, in the least unit that they share."""
+    return in_units(prices, common_unit(prices))
+
+
 def fractions_of(amounts, unit):
     """The tuple of the FRACTIONS that the integers are, each divided by the unit."""
     if unit == 1:

@@ -29,7 +29,8 @@ WIDE = drawn_pairs(104, 4, 6, 9, [(3, 3), (4, 3)]) + drawn_pairs(105, 2, 10 ** 6
 def bound_pairs():
     chance = random.Random(106)
     goods = goods_at_the_bounds(107, 2)
-    return [(good, drawn_twin(chance, good, 0.2)) for good in goods] + [(good, rebuilt_twin(chance, good)) for good in goods]
+    pairs = [(good, drawn_twin(chance, good, 0.2)) for good in goods]
+    return pairs + [(good, rebuilt_twin(chance, good)) for good in goods]
 
 
 # A GOOD of which 50 of 100 are just of here at the greatest price of its work alone.
@@ -44,7 +45,7 @@ INNER = made([made([raw(1, 3)], 2, 2), raw(4, 4, "away")], 0, 1, rule=(40, "own"
 INNER_OWN = made([made([raw(1, 3)], 2, 2, rule=(100, "own", "own")), raw(4, 4, "away")], 0, 1, rule=(40, "own", "none"))
 SLANTED = made([raw(0, 4, "away"), raw(1, 5)], 0, 0, rule=(50, "own", "own"))
 FIXED = [
-    # GOODS, whether they part, whether the one is of here somewhere where the other one is not, and the other way round.
+    # GOODS, whether the one is of here somewhere where the other one is not, and the other way round.
     (JUST, with_share(JUST, 51), True, False),
     (with_share(JUST, 51), JUST, False, True),
     (CORNER, with_share(CORNER, 51), True, False),
@@ -123,7 +124,8 @@ class ApartTest(unittest.TestCase):
     def test_against_all_cells(self):
         told = {}
         for good, other in PAIRS + FIXED_PAIRS:
-            words = {(words_at_point(good, point)[0], words_at_point(other, point)[0]) for point in points_of(good, other)}
+            points = points_of(good, other)
+            words = {(words_at_point(good, point)[0], words_at_point(other, point)[0]) for point in points}
             apart = self.check(good, other, (1, 0) in words, (0, 1) in words)
             told[apart] = told.get(apart, 0) + 1
         self.assertGreater(min(told.values()), 40)
@@ -131,7 +133,8 @@ class ApartTest(unittest.TestCase):
     def test_three_that_move_against_all_choices_of_forms(self):
         told = {}
         for good, other in THREE:
-            apart = self.check(good, other, slow_apart(good, other, 1) is not None, slow_apart(good, other, 0) is not None)
+            apart = self.check(good, other, slow_apart(good, other, 1) is not None,
+                               slow_apart(good, other, 0) is not None)
             told[apart] = told.get(apart, 0) + 1
         self.assertGreater(min(told.values()), 2)
 
@@ -181,7 +184,7 @@ def slow_bar(good, words, other, others, weights):
     many = 2 * len(moves(good))
     mine = slow_forms(good, words)
     rows = mine + slow_forms(other, others)[many:]
-    if len(weights) != len(rows) or any(type(weight) is not int or weight < 0 for weight in weights) or not any(weights):
+    if len(weights) != len(rows) or any(type(weight) is not int or weight < 0 for weight in weights):
         return False
     total = [sum(weight * row[k] for weight, row in zip(weights, rows)) for k in range(len(rows[0]))]
     lifted = [weight for weight, word in zip(weights[many:], words + others) if word == 0 and weight]
@@ -242,7 +245,8 @@ class RefusedPaperTest(unittest.TestCase):
             for paper in list(ODD) + [
                 [word, told], (word,), (word, told, ()), (word, list(told)), (told, word), ("Alike", told), ("", told),
                 (None, told), (word.encode(), told), (True, told), (Agreeing(), told), (Raising(), told), (word, None),
-                (wrong, {}), (wrong, "alike"), (word, Raising()), (word, Agreeing()), (word, File(LAMP)), ((word,), told),
+                (wrong, {}), (wrong, "alike"), (word, Raising()), (word, Agreeing()), (word, File(LAMP)),
+                ((word,), told),
                 ("surely", told), ("fails", told), (word + " ", told), {word: told}, word, File(good), (wrong, []),
             ]:
                 self.refuse(good, other, paper, "form")
@@ -285,7 +289,8 @@ class RefusedPaperTest(unittest.TestCase):
                         self.refuse(good, other, ("alike", rows[:at] + (row,) + rows[at + 1:]), "alike")
 
     def test_rows_with_other_things_in_them(self):
-        odd = [None, True, [], (), "x", Agreeing(), Raising(), (None,) * 3, (Raising(),) * 3, File(LAMP), (Agreeing(),) * 3]
+        odd = [None, True, [], (), "x", Agreeing(), Raising(), (None,) * 3, (Raising(),) * 3, File(LAMP),
+               (Agreeing(),) * 3]
         for good, other in self.alike_pairs():
             _, rows = beside_paper(good, other)
             for at, (words, others, weights) in enumerate(rows):
@@ -293,8 +298,10 @@ class RefusedPaperTest(unittest.TestCase):
                 bad += [(value, others, weights) for value in odd] + [
                     [words, others, weights], (list(words), others, weights), (words, list(others), weights),
                     (words, others, list(weights)), (words, others, weights, ()), (words, others), (words, weights),
-                    (words, others, weights[:-1]), (words, others, weights + (0,)), (words, others, (0,) * len(weights)),
-                    (words[:-1] + (bool(words[-1]),), others, weights), (words, others[:-1] + (bool(others[-1]),), weights),
+                    (words, others, weights[:-1]), (words, others, weights + (0,)),
+                    (words, others, (0,) * len(weights)),
+                    (words[:-1] + (bool(words[-1]),), others, weights),
+                    (words, others[:-1] + (bool(others[-1]),), weights),
                     (words + (0,), others, weights), (words, others + (0,), weights), (words + others, weights, ()),
                 ]
                 for k, weight in enumerate(weights):

@@ -74,13 +74,15 @@ class SayTest(DeskTest):
     def test_by_hand(self):
         desk = Desk(text_of(TRUCK))
         for line, told in (
-            ("words", "0 0"), ("portion", "0/1"), ("sure", "either"), ("most", "0 63"), ("prices", "5/1 10/1 20/1 0/1 30/1"),
-            ("text", "made away 5 5 60 own own / . made here 10 30 50 whole none / .. raw away 20 20 / .. raw here 0 10 / "
-             ". raw away 30 30"),
-            ("undo", "nothing"), ("price 1 30/1", "away"), ("words", "0 1"), ("portion", "10/17"), ("price 3 15/2", "here"),
+            ("words", "0 0"), ("portion", "0/1"), ("sure", "either"), ("most", "0 63"),
+            ("prices", "5/1 10/1 20/1 0/1 30/1"),
+            ("text", "made away 5 5 60 own own / . made here 10 30 50 whole none / .. raw away 20 20 / .. raw here 0 10"
+             " / . raw away 30 30"),
+            ("undo", "nothing"), ("price 1 30/1", "away"), ("words", "0 1"), ("portion", "10/17"),
+            ("price 3 15/2", "here"),
             ("words", "1 1"), ("prices", "5/1 30/1 20/1 15/2 30/1"), ("rule 1 100 own none", "away"), ("words", "0 0"),
-            ("text", "made away 5 5 60 own own / . made here 10 30 100 own none / .. raw away 20 20 / .. raw here 0 10 / "
-             ". raw away 30 30"),
+            ("text", "made away 5 5 60 own own / . made here 10 30 100 own none / .. raw away 20 20 / .. raw here 0 10"
+             " / . raw away 30 30"),
             ("sure", "never"), ("most", "0 0"), ("rule 0 0 whole own", "here"), ("sure", "surely"), ("undo", "done"),
             ("undo", "done"), ("words", "1 1"), ("price 3 11/1", "no"), ("price 3 10/1", "here"), ("undo", "done"),
             ("undo", "done"), ("undo", "done"), ("undo", "nothing"), ("words", "0 0"), ("undo", "nothing"),
@@ -110,7 +112,8 @@ class SayTest(DeskTest):
             return f"price {number} {part + chance.choice((0, 0, 0, of))}/{of}"
         if kind == "rule":
             words = chance.choice(("whole", "own")), chance.choice(("own", "none"))
-            return f"rule {chance.randrange(len(steps(good)) + 1)} {chance.choice((0, 40, 50, 100, 101))} " + " ".join(words)
+            step, share = chance.randrange(len(steps(good)) + 1), chance.choice((0, 40, 50, 100, 101))
+            return " ".join(("rule", str(step), str(share), *words))
         return kind
 
     def test_drawn_lines(self):
@@ -151,7 +154,8 @@ class SayTest(DeskTest):
     def test_numbers_of_seven_figures_and_prices_of_thirty(self):
         good = made([raw(0, 10 ** 6)], 1, 1)
         desk, file = Desk(text_of(good)), File(good)
-        for line in ("price 1 1000000/1", f"price 1 1/{10 ** 29}", f"price 1 {10 ** 29 - 1}/{10 ** 24}", "price 1 1000001/1"):
+        for line in ("price 1 1000000/1", f"price 1 1/{10 ** 29}", f"price 1 {10 ** 29 - 1}/{10 ** 24}",
+                     "price 1 1000001/1"):
             self.check(desk, file, line)
         for line in ("price 9999999 1/1", "price 1000000 1/1", "rule 9999999 1 own own", "rule 0 9999999 own own"):
             self.check(desk, file, line)
@@ -177,9 +181,11 @@ class NoTest(DeskTest):
 
     def test_what_is_no_such_line(self):
         right = ("price 1 20/1", "rule 1 20 own own", "words", "portion", "sure", "most", "text", "prices", "undo")
-        lines = ["", " ", "  ", "\n", "x", "no", "here", "back", "good", "file", "copy", "len", "words words", "price", "rule",
+        lines = ["", " ", "  ", "\n", "x", "no", "here", "back", "good", "file", "copy", "len", "words words", "price",
+                 "rule",
                  "undo undo", "undo 1", "say words", "price 1", "price 20/1", "rule 1", "rule 1 20", "rule 1 20 own",
-                 "rule 1 20 own own own", "rule 20 own own", "price 1 20/1 1", "price 1 2 20/1", "words 0", "portion 1/2"]
+                 "rule 1 20 own own own", "rule 20 own own", "price 1 20/1 1", "price 1 2 20/1", "words 0",
+                 "portion 1/2"]
         for line in right:
             lines += [line + " ", " " + line, line + "\n", "\n" + line, line.upper(), line.capitalize(), line.title(),
                       line + "\t", line + " x", "x " + line, line + "x", line[:-1], line + ".", line + ";", line + "\r",
@@ -191,9 +197,11 @@ class NoTest(DeskTest):
                     self.no(desk, line)
 
     def test_integers_and_fractions_that_are_none(self):
-        wrong = ("01", "00", "-1", "+1", "-0", "+0", "1.0", "1_0", "x", "one", "", "1,", "0x1", "\u0661", "\u00b2", "True",
+        wrong = ("01", "00", "-1", "+1", "-0", "+0", "1.0", "1_0", "x", "one", "", "1,", "0x1", "\u0661", "\u00b2",
+                 "True",
                  "1/1", "11111111", "00000000", "1e1")
-        fractions = ("20", "20/0", "0/0", "40/2", "2/4", "0/2", "020/1", "20/01", "+20/1", "-20/1", "20/-1", "-20/-1", "20/+1",
+        fractions = ("20", "20/0", "0/0", "40/2", "2/4", "0/2", "020/1", "20/01", "+20/1", "-20/1", "20/-1", "-20/-1",
+                     "20/+1",
                      "20//1", "20/1/1", "/1", "20/", "/", "", "x/1", "20/x", "20.0/1", "\u0661/1", "20\\1", "20:1",
                      "1" * 31 + "/1", "20/1" + "0" * 30)
         for desk in self.each_desk():
@@ -249,8 +257,10 @@ class NoDeskTest(unittest.TestCase):
                 Desk("\n".join(rows[:at] + [rows[at] + " "] + rows[at + 1:]))
             self.assertEqual(caught.exception.line, at + 1)
         for thing, number, part in (
-            (made([raw(2, 1)]), 1, "high"), (made([]), 0, "parts"), (raw(1, 1), 0, "raw"), (made([raw(0, 0)]), 0, "nothing"),
-            (wide(11), 10, "many"), (made([raw(0, 1)] * 4), 0, "moves"), (made([raw(1, 1)], rule=(101, "own", "own")), 0, "rule"),
+            (made([raw(2, 1)]), 1, "high"), (made([]), 0, "parts"), (raw(1, 1), 0, "raw"),
+            (made([raw(0, 0)]), 0, "nothing"),
+            (wide(11), 10, "many"), (made([raw(0, 1)] * 4), 0, "moves"),
+            (made([raw(1, 1)], rule=(101, "own", "own")), 0, "rule"),
         ):
             with self.assertRaises(BadGood) as caught:
                 Desk(text_of(thing))

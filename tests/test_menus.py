@@ -76,7 +76,8 @@ class NeedMenuTest(unittest.TestCase):
 
     def test_what_is_no_tuple_of_one_to_three_things(self):
         for value in [value for value in ODD if not (isinstance(value, tuple) and 1 <= len(value) <= 3)] + [
-            (), [LAMP], [LAMP, LAMP], (LAMP,) * 4, (None,) * 4, {0: LAMP}, LAMP, TRUCK, File(LAMP), "abc", iter((LAMP,)),
+            (), [LAMP], [LAMP, LAMP], (LAMP,) * 4, (None,) * 4, {0: LAMP}, LAMP, TRUCK, File(LAMP), "abc",
+            iter((LAMP,)),
         ]:
             self.refuse(value, None)
 
@@ -110,7 +111,8 @@ class LotsTest(unittest.TestCase):
     def test_by_hand(self):
         for menu, told in (
             ((LAMP,), ((0,),)), ((LAMP, LAMP), ((0, 1),)), ((LAMP,) * 3, ((0, 1, 2),)), (SHARES, ((0,), (1,), (2,))),
-            ((NEVER, NO, LAMP), ((0, 1), (2,))), ((NEVER, LAMP, NO), ((0, 2), (1,))), ((LAMP, NEVER, NO), ((0,), (1, 2))),
+            ((NEVER, NO, LAMP), ((0, 1), (2,))), ((NEVER, LAMP, NO), ((0, 2), (1,))),
+            ((LAMP, NEVER, NO), ((0,), (1, 2))),
             ((NO, NEVER), ((0, 1),)), ((NO, LAMP), ((0,), (1,))),
         ):
             self.assertEqual(lots(menu), told)
@@ -168,7 +170,8 @@ class FittingTest(unittest.TestCase):
         low, middle, high = lows(LAMP), ((20, 1), (20, 1), (0, 1)), highs(LAMP)
         between = ((40, 3), (20, 1), (0, 1))
         for seen, told in (
-            ((), (0, 1, 2)), (((low, 0),), (0, 1, 2)), (((low, 1),), ()), (((middle, 1),), (0, 1)), (((middle, 0),), (2,)),
+            ((), (0, 1, 2)), (((low, 0),), (0, 1, 2)), (((low, 1),), ()), (((middle, 1),), (0, 1)),
+            (((middle, 0),), (2,)),
             (((high, 1), (middle, 0)), (2,)), (((middle, 1), (middle, 0)), ()), (((high, 1),) * 40, (0, 1, 2)),
             (((between, 1), (middle, 1)), (0,)), (((high, 0), (low, 1)), ()),
         ):

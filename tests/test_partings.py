@@ -62,7 +62,8 @@ def slow_change(good, change, prices):
         if max(told) >= len(parts):
             return None
         fresh = [("made", thing[0][1], 0, 0, thing[0][4]), (0, 1), [parts[at] for at in told]]
-        thing[2] = [fresh if at == min(told) else part for at, part in enumerate(parts) if at == min(told) or at not in told]
+        left = [at for at in range(len(parts)) if at == min(told) or at not in told]
+        thing[2] = [fresh if at == min(told) else parts[at] for at in left]
     else:
         if told >= len(parts) or parts[told][0][0] != "made":
             return None
@@ -139,7 +140,8 @@ class ChangesTest(unittest.TestCase):
     def test_by_hand(self):
         self.assertEqual(changes(LAMP), (("part", 0, (0,)), ("part", 0, (0, 1)), ("part", 0, (1,))))
         self.assertEqual(changes(TRUCK), (
-            ("join", 0, 0), ("part", 0, (0,)), ("part", 0, (0, 1)), ("part", 0, (1,)), ("part", 1, (0,)), ("part", 1, (0, 1)),
+            ("join", 0, 0), ("part", 0, (0,)), ("part", 0, (0, 1)), ("part", 0, (1,)), ("part", 1, (0,)),
+            ("part", 1, (0, 1)),
             ("part", 1, (1,)),
         ))
         # Four STEPS already, so nothing can part; and with PART 1 of STEP 0 gone this would have five PARTS.
@@ -150,7 +152,8 @@ class ChangesTest(unittest.TestCase):
         one, two = made([raw(1, 1)]), made([raw(1, 1), raw(2, 2)])
         # More than four PARTS: three of it, and two more for the one that goes.
         self.assertEqual([change for change in changes(made([two, raw(1, 1), raw(1, 1)])) if change[0] == "join"], [])
-        self.assertEqual([change for change in changes(made([two, raw(1, 1)])) if change[0] == "join"], [("join", 0, 0)])
+        self.assertEqual([change for change in changes(made([two, raw(1, 1)])) if change[0] == "join"],
+                         [("join", 0, 0)])
         self.assertEqual([change for change in changes(made([one, one, one])) if change[0] == "join"],
                          [("join", 0, at) for at in range(3)])
         # More than ten THINGS, and more than four STEPS.
@@ -184,7 +187,8 @@ class ChangedTest(unittest.TestCase):
         self.assertEqual(changed(LAMP, ("part", 0, (1,))), made([away, ("made", "here", 0, 0, rule, (here,))], 10, 30))
         self.assertEqual(changed(LAMP, ("part", 0, (0, 1))), made([("made", "here", 0, 0, rule, (away, here))], 10, 30))
         self.assertEqual(changed(TRUCK, ("part", 0, (1,))), made(
-            [LAMP, ("made", "away", 0, 0, (60, "own", "own"), (raw(30, 30, "away"),))], 5, 5, "away", (60, "own", "own"),
+            [LAMP, ("made", "away", 0, 0, (60, "own", "own"), (raw(30, 30, "away"),))], 5, 5, "away",
+            (60, "own", "own"),
         ))
 
     def test_parts_apart_come_together_at_the_place_of_the_first(self):
@@ -231,8 +235,8 @@ class ChangedTest(unittest.TestCase):
             for change in changes(good):
                 come = changed(good, change)
                 if change[0] == "part":
-                    step = all_things(good)[[at for at, thing in enumerate(all_things(good)) if thing[0] == "made"][change[1]]]
-                    fresh = [thing for thing in all_things(come) if thing[0] == "made" and thing not in all_things(good)]
+                    step = [thing for thing in all_things(good) if thing[0] == "made"][change[1]]
+                    fresh = [thing for thing in all_things(come) if thing not in all_things(good)]
                     self.assertTrue(any(thing[:5] == ("made", step[1], 0, 0, step[4]) for thing in fresh))
                     self.assertEqual(many_steps(come), many_steps(good) + 1)
                 else:
@@ -255,19 +259,25 @@ class RefusedTest(unittest.TestCase):
     def test_what_is_none(self):
         bad = list(ODD) + [
             ("join", 0), ("join", 0, 0, 0), ["join", 0, 0], ("join", "0", 0), ("join", 0, "0"), ("join", True, 0),
-            ("join", False, 0), ("join", 0, False), ("join", None, 0), ("join", 0, None), ("join", 0, (0,)), ("join", 0, [0]),
-            ("join", -1, 0), ("join", 0, -1), ("join", 2, 0), ("join", 10 ** 60, 0), ("join", 0, 10 ** 60), ("join", 0, 2),
+            ("join", False, 0), ("join", 0, False), ("join", None, 0), ("join", 0, None), ("join", 0, (0,)),
+            ("join", 0, [0]),
+            ("join", -1, 0), ("join", 0, -1), ("join", 2, 0), ("join", 10 ** 60, 0), ("join", 0, 10 ** 60),
+            ("join", 0, 2),
             ("Join", 0, 0), ("", 0, 0), (None, 0, 0), (b"join", 0, 0), (("join",), 0, 0), ("split", 0, (0,)),
-            (Agreeing(), 0, 0), ("join", Agreeing(), 0), ("join", 0, Agreeing()), (Raising(), 0, 0), ("join", Raising(), 0),
+            (Agreeing(), 0, 0), ("join", Agreeing(), 0), ("join", 0, Agreeing()), (Raising(), 0, 0),
+            ("join", Raising(), 0),
             ("join", 0, Raising()), ("join", (0,), 0), {"join": 0}, ("join", 0.0, 0), ("part", 0, (0.0,)),
-            ("part", 0, 0), ("part", 0, []), ("part", 0, [0]), ("part", 0, ()), ("part", 0, (1, 0)), ("part", 0, (0, 0)),
+            ("part", 0, 0), ("part", 0, []), ("part", 0, [0]), ("part", 0, ()), ("part", 0, (1, 0)),
+            ("part", 0, (0, 0)),
             ("part", 0, (1, 1)), ("part", 0, (-1,)), ("part", 0, (-1, 0)), ("part", 0, (2,)), ("part", 0, (0, 2)),
-            ("part", 0, (0, 1, 2)), ("part", 0, (True,)), ("part", 0, (False,)), ("part", 0, (False, 1)), ("part", 0, (0, True)),
+            ("part", 0, (0, 1, 2)), ("part", 0, (True,)), ("part", 0, (False,)), ("part", 0, (False, 1)),
+            ("part", 0, (0, True)),
             ("part", 0, ("0",)), ("part", 0, (None,)), ("part", 0, ((0,),)), ("part", 0, {0: 1}), ("part", 0, "0"),
             ("part", 0, range(1)), ("part", 2, (0,)), ("part", -1, (0,)), ("part", True, (0,)), ("part", "0", (0,)),
             ("part", None, (0,)), ("part", 0, (Agreeing(),)), ("part", 0, (Raising(),)), ("part", 0, Raising()),
             ("part", 0, (0, 1, 0)), ("part", 0, (0,) * 5), ("part", 0), ("part", 0, (0,), 0), ["part", 0, (0,)],
-            ("part", 0, None), ("part", 10 ** 60, (0,)), ("part", 0, (10 ** 60,)), ("whole", 0, (0,)), TRUCK, File(TRUCK),
+            ("part", 0, None), ("part", 10 ** 60, (0,)), ("part", 0, (10 ** 60,)), ("whole", 0, (0,)), TRUCK,
+            File(TRUCK),
         ]
         for change in bad:
             self.refuse(TRUCK, change)
@@ -366,7 +376,9 @@ class TurnedTest(unittest.TestCase):
         # The PARTS that move come together ahead of one that moves, too: so their turn is another one.
         good = made([raw(0, 3), raw(1, 6, "away"), raw(0, 5)], 0, 0, "away", (60, "whole", "none"))
         self.assertNotEqual(places(good, ("part", 0, (0, 2))), [0, 1, 2])
-        self.check(good, lambda change, come: {(word, 1 - word) for word in (0, 1) if slow_turn(good, change, come, word)})
+        self.check(good, lambda change, come: {
+            (word, 1 - word) for word in (0, 1) if slow_turn(good, change, come, word)
+        })
 
     def test_making_sure_and_best_change(self):
         better = same = none = 0

@@ -16,12 +16,13 @@ from tests.slow import all_things, moving, with_share
 
 GOODS = [LAMP, TRUCK, CART, GIFT, made([raw(1, 1)]), wide(10), chain(4, raw(1, 2))] + lonely_goods()
 TWO = [(steps, moving) for steps in (1, 2, 3, 4) for moving in (0, 1, 2)]
-# 6 from here and a from away: it counts whole up to a = 6, and it has to be 8. So a dearer part lifts the GOOD, and drops it.
+# 6 from here and a from away count whole up to a = 6, and they have to be 8: so a dearer part lifts the GOOD, and then
+# drops it.
 MOODY = made([made([raw(6, 6), raw(0, 9, "away")]), raw(8, 8, "away")], 0, 0, "away", (50, "own", "own"))
 # At the lowest price alone it is of here, or at the greatest one alone.
 FALL = made([raw(0, 4, "away")], 2, 2, rule=(100, "own", "own"))
 CLIMB = made([raw(2, 2, "away")], 0, 2, rule=(50, "own", "own"))
-# One part moves within the other one: both lines meet the border where it is of here at one corner alone.
+# It is of here at one corner of all PRICES alone.
 CORNER = made([raw(2, 5, "away")], 0, 2, rule=(50, "own", "own"))
 
 

@@ -92,7 +92,8 @@ class ReadGoodTest(unittest.TestCase):
         deep = made([made([made([raw(1, 1)]), raw(2, 2)]), made([raw(3, 3)])])
         self.assertEqual(read_good(text_of(deep)), deep)
         self.assertEqual(read_good(
-            "made here 1 1 1 own own\n. made here 0 0 2 own own\n.. made here 0 0 3 own own\n... raw here 1 1\n. raw away 2 2"
+            "made here 1 1 1 own own\n. made here 0 0 2 own own\n.. made here 0 0 3 own own\n... raw here 1 1\n"
+            ". raw away 2 2"
         ), made([made([made([raw(1, 1)], rule=(3, "own", "own"))], rule=(2, "own", "own")), raw(2, 2, "away")], 1, 1,
                 rule=(1, "own", "own")))
 
@@ -115,11 +116,13 @@ class ReadGoodTest(unittest.TestCase):
         told += [ahead + " ".join(rest[:at] + rest[at + 1:]) for at in range(len(rest))]
         told += [ahead + " ".join(rest[:at] + [rest[at]] + rest[at:]) for at in range(len(rest))]
         for at, word in enumerate(rest):
-            others = [word.capitalize() + "x", word + ".", "." + word, word[0] + "." + word[1:], "none none", "", "here.",
+            others = [word.capitalize() + "x", word + ".", "." + word, word[0] + "." + word[1:], "none none", "",
+                      "here.",
                       "Here", "HERE", "raws", "cooked", word + ",", '"' + word + '"', "/", "None", "wholes", "0x1"]
             if word.isdigit():
                 others += ["-" + word, "+" + word, "0" + word, "00", "01", "007", "1" * 8, "10000000", "0" * 8, "1.0",
-                           "1_0", "1e3", "one", "1/1", "\u0661", "\u00b2", "\uff11", "1\u0661", "-0", "+0", "--1", "0b1"]
+                           "1_0", "1e3", "one", "1/1", "\u0661", "\u00b2", "\uff11", "1\u0661", "-0", "+0", "--1",
+                           "0b1"]
             else:
                 others += ["1", "0"] + [one for one in ("raw", "made", "here", "away", "whole", "own", "none")
                                         if one not in self.may_stand(rest, at)]
@@ -209,8 +212,10 @@ class ReadGoodTest(unittest.TestCase):
     def test_behind_that_what_need_good_tells(self):
         four, three = made([raw(1, 1)] * 4), made([raw(1, 1)] * 3)
         for thing, number, part in (
-            (made([raw(2, 1)]), 1, "high"), (made([raw(0, MOST + 1)]), 1, "high"), (made([raw(MOST + 1, MOST + 1)]), 1, "low"),
-            (made([raw(1, 1)], rule=(101, "own", "own")), 0, "rule"), (made([]), 0, "parts"), (made([made([])]), 1, "parts"),
+            (made([raw(2, 1)]), 1, "high"), (made([raw(0, MOST + 1)]), 1, "high"),
+            (made([raw(MOST + 1, MOST + 1)]), 1, "low"),
+            (made([raw(1, 1)], rule=(101, "own", "own")), 0, "rule"), (made([]), 0, "parts"),
+            (made([made([])]), 1, "parts"),
             (made([raw(1, 1)] * 5), 0, "parts"), (made([raw(1, 1), made([raw(1, 1)] * 5)]), 2, "parts"),
             (made([four, three, raw(1, 1)]), 10, "many"), (wide(11), 10, "many"), (chain(5, raw(1, 1)), 4, "many"),
             (made([made([raw(1, 1)])] * 4), 7, "many"), (raw(1, 1), 0, "raw"), (raw(2, 1), 0, "high"),
@@ -308,8 +313,10 @@ class ReadPricesTest(unittest.TestCase):
     def test_words_that_are_no_fractions(self):
         words = ["10/1", "20/1", "0/1"]
         for wrong in (
-            "1", "10", "1/0", "0/0", "0/2", "2/4", "10/10", "20/2", "01/1", "1/01", "1/00", "00/1", "+1/1", "1/+1", "-1/1",
-            "-0/1", "1/-1", "-10/-1", "1/1/1", "1//1", "/1", "1/", "/", "//", "", "x/1", "1/x", "1.0/1", "1_0/1", "0x1/1",
+            "1", "10", "1/0", "0/0", "0/2", "2/4", "10/10", "20/2", "01/1", "1/01", "1/00", "00/1", "+1/1", "1/+1",
+            "-1/1",
+            "-0/1", "1/-1", "-10/-1", "1/1/1", "1//1", "/1", "1/", "/", "//", "", "x/1", "1/x", "1.0/1", "1_0/1",
+            "0x1/1",
             "\u0661/1", "1/\u0661", "\u00b2/1", "1\\1", "1:1", "1/1.", "(1/1)", "1e1/1", "10/1/", "/10/1",
             "1" * 31 + "/1", "1/1" + "0" * 30, "1" * 1000 + "/1", "1/" + "7" * 31,
         ):
@@ -321,15 +328,18 @@ class ReadPricesTest(unittest.TestCase):
     def test_up_to_thirty_figures(self):
         of = 10 ** 28
         for price in ((10 * of + 1, of), (30 * of - 1, of), (11 * of + 7, of)):
-            self.assertEqual(read_prices(LAMP, f"{price[0]}/{price[1]} 20/1 1/{10 ** 29}"), (price, (20, 1), (1, 10 ** 29)))
+            self.assertEqual(read_prices(LAMP, f"{price[0]}/{price[1]} 20/1 1/{10 ** 29}"),
+                             (price, (20, 1), (1, 10 ** 29)))
         self.refuse_prices(LAMP, "9" * 30 + "/1 20/1 0/1", 0)
         self.refuse(LAMP, f"10/1 20/1 1/{10 ** 30}", 1)
         self.refuse_prices(LAMP, f"1/{10 ** 29} 20/1 1/{10 ** 29}", 0)
 
     def test_prices_that_are_beyond_their_bounds(self):
         for text, number in (
-            ("9/1 20/1 0/1", 0), ("31/1 20/1 0/1", 0), ("19/2 20/1 0/1", 0), ("61/2 20/1 0/1", 0), ("10/1 21/1 11/1", 1),
-            ("10/1 41/2 0/1", 1), ("10/1 20/1 11/1", 2), ("10/1 20/1 21/2", 2), ("0/1 0/1 99/1", 0), ("30/1 0/1 99/1", 1),
+            ("9/1 20/1 0/1", 0), ("31/1 20/1 0/1", 0), ("19/2 20/1 0/1", 0), ("61/2 20/1 0/1", 0),
+            ("10/1 21/1 11/1", 1),
+            ("10/1 41/2 0/1", 1), ("10/1 20/1 11/1", 2), ("10/1 20/1 21/2", 2), ("0/1 0/1 99/1", 0),
+            ("30/1 0/1 99/1", 1),
         ):
             self.refuse_prices(LAMP, text, number)
         self.refuse_prices(TRUCK, "5/1 10/1 20/1 11/1 29/1", 3)

@@ -3,12 +3,23 @@
 import sys
 import time
 
+from madeofhere.beside import (
+    are_alike, beside_paper, beyond_prices, both_forms, check_beside, never_less, parting_prices,
+)
 from madeofhere.counts import costs, counted, is_of_here, owns, portion, words_at
+from madeofhere.desk import Desk
 from madeofhere.files import File
-from madeofhere.goods import things
+from madeofhere.goods import highs, lows, things
+from madeofhere.menus import fitting_goods, here_by, lots, need_menu, telling_prices
+from madeofhere.partings import (
+    best_change, changed, changed_prices, changes, harming, helping, helping_prices, making_sure,
+)
 from madeofhere.pieces import coming, corners, do_come, forms, prices_for
 from madeofhere.portions import greatest_portion, least_portion, most_ever, most_sure, prices_of
+from madeofhere.rises import drop_by, lift_by, moody
 from madeofhere.sures import check_sure, do_bar, is_never, is_sure, sure_paper, weights_for
+from madeofhere.texts import good_text, prices_text, read_good, read_prices
+from madeofhere.turns import here_turns, move_of, turns
 from tests.slow import all_words, with_share
 
 G = ("made", "here", 0, 5, (50, "whole", "own"),
@@ -20,6 +31,12 @@ H = ("made", "here", 1, 2, (50, "whole", "own"),
       ("made", "away", 4, 4, (40, "own", "own"), (("raw", "here", 1, 3),)),
       ("raw", "away", 6, 6)))
 Q = ((1, 1), (1, 1), (11, 2), (3, 1), (0, 1), (2, 1), (9, 1), (4, 1), (5, 3), (6, 1))
+# As great as a GOOD of which STEPS can part, and of which a dearer THING turns the word both ways.
+M = ("made", "away", 0, 0, (50, "own", "own"),
+     (("made", "away", 0, 0, (50, "whole", "own"),
+       (("raw", "here", 4, 6), ("raw", "away", 0, 9), ("raw", "away", 1, 1))),
+      ("made", "here", 1, 1, (60, "whole", "none"), (("raw", "here", 1, 4), ("raw", "away", 2, 2))),
+      ("raw", "away", 8, 8)))
 
 
 def seconds(many, function, *told):
@@ -71,6 +88,63 @@ def call_rows(good):
     yield "prices_of", 1000, [(prices_of, good, (part, 7)) for part in (1, 2, 3, 4, 5, 6)]
 
 
+def text_rows(good):
+    """The same of texts, of a desk and of turns."""
+    prices = [lows(good), highs(good)]
+    yield "good_text", 30, [(good_text, good)]
+    yield "read_good", 60, [(read_good, good_text(good))]
+    yield "prices_text", 30, [(prices_text, good, one) for one in prices]
+    yield "read_prices", 30, [(read_prices, good, prices_text(good, one)) for one in prices]
+    say = Desk(good_text(good)).say
+    refused = ("", "word", "price 1", "price 01 1/1", "price 0 1/1000001", "price 99 1/1", "rule 0 101 own own")
+    yield "say, refused", 10, [(say, line) for line in refused]
+    price = "price 0 " + prices_text(good, prices[1]).split(" ", maxsplit=1)[0]
+    yield "say, price", 60, [(lambda line: say(line) + say("undo"), price)]
+    yield "say, rule", 60, [(lambda line: say(line) + say("undo"), "rule 0 40 own own")]
+    for line in ("words", "portion", "text", "prices", "sure", "most"):
+        yield "say, " + line, 60, [(say, line)]
+    for function in (turns, here_turns, move_of):
+        yield function.__name__, 100, [(function, good, one, at) for one in prices for at in range(len(one))]
+
+
+def twins_of(good):
+    """TWINS of a GOOD: itself, some with another RULE of STEP 0, and some whose work is done elsewhere."""
+    land = "away" if good[1] == "here" else "here"
+    return [good, with_share(good, good[4][0] - 5), with_share(good, 0), (good[0], land, *good[2:])]
+
+
+def beside_rows(good):
+    """The same of GOODS beside one another, and of menus."""
+    words = all_words(good)
+    pairs = [(good, other) for other in twins_of(good)]
+    yield "both_forms", 40, [(both_forms, good, one, pairs[1][1], other) for one, other in zip(words, words[::-1])]
+    for function in (are_alike, never_less, parting_prices, beyond_prices, beside_paper):
+        yield function.__name__, 500, [(function, *pair) for pair in pairs]
+    yield "check_beside", 200, [(check_beside, *pair, beside_paper(*pair)) for pair in pairs]
+    menu = tuple(twins_of(good)[1:])
+    seen = ((lows(good), int(is_of_here(good, lows(good)))), (highs(good), int(is_of_here(good, highs(good)))))
+    yield "need_menu", 50, [(need_menu, menu)]
+    yield "here_by", 50, [(here_by, menu, lows(good))]
+    yield "fitting_goods", 100, [(fitting_goods, menu, seen)]
+    yield "fitting_goods, 40", 100, [(fitting_goods, menu, seen * 20)]
+    yield "lots", 1000, [(lots, menu)]
+    yield "telling_prices", 1000, [(telling_prices, menu)]
+
+
+def change_rows(good):
+    """The same of CHANGES, for each of them where all are asked for at once, and of prices that rise."""
+    rows = changes(good)
+    yield "changes", 100, [(changes, good)]
+    yield "changed", 40, [(changed, good, change) for change in rows]
+    yield "changed_prices", 40, [(changed_prices, good, change, lows(good)) for change in rows]
+    yield "helping_prices", 300, [(helping_prices, good, change) for change in rows]
+    for function in (helping, harming, making_sure, best_change):
+        yield function.__name__, 300 * len(rows), [(function, good)]
+    for function in (drop_by, lift_by):
+        yield function.__name__, 500, [(function, good, number) for number in range(len(things(good)))]
+    yield "moody", 1000, [(moody, good)]
+
+
 def look(file):
     """All that a file tells."""
     return file(), file.words(), file.portion(), file.good, file.prices, len(file), file.words() in file
@@ -96,14 +170,16 @@ def live_rows(good):
     yield "rule, and back", 100, [(rule, File(good))]
 
 
-def show_sheets():
-    print("microseconds for each call: with G, wanted of it (a little more may do), with H")
-    small, great = ([*call_rows(good), *live_rows(good)] for good in (G, H))
-    for (name, wanted, rows), (_, _, others) in zip(small, great):
-        print(f"  {name:<18}{micros(200, rows):8.1f}{wanted:8}{micros(50, others):10.1f}")
+def show_micros(told, calls, great):
+    """The times of calls, with G and with a great GOOD."""
+    print(f"microseconds for each call: with G, wanted of it (a little more may do), with {told}")
+    for (name, wanted, rows), (_, _, others) in zip(calls(G), calls(great)):
+        print(f"  {name:<18}{micros(100, rows):8.1f}{wanted:8}{micros(10, others):10.1f}")
 
 
 if __name__ == "__main__":
     print(f"CPython {sys.version.split()[0]}")
     show_counts()
-    show_sheets()
+    for of in (call_rows, live_rows, text_rows, beside_rows):
+        show_micros("H", of, H)
+    show_micros("M", change_rows, M)
