@@ -26,7 +26,7 @@ def _do_price(one, told):
 
 def _do_rule(one, told):
     """Do what is told behind the word rule."""
-    if len(told) != 4 or not are_integers(told[:1]) or not is_told_rule(told[1:]):
+    if not are_integers(told[:1]) or not is_told_rule(told[1:]):
         return NO
     step, share, up, down = told
     one.rule(int(step), (int(share), up, down))

@@ -5,7 +5,7 @@ from madeofhere.outlines import Outline, bound_forms, mixed, prices_at, step_for
 from madeofhere.sheets import coming_sheets, cut, has_inside, line_corners, middle_place, middle_prices, sheets_between
 
 
-def _forms_behind(outline, sheet, at):
+def forms_behind(outline, sheet, at):
     """Forms that tell behind what PRICES of a sheet the price at this place can rise to, within all PRICES.
 
     They are pairs of a form that is not below 0 there, and of 1 if it is above 0, otherwise 0. What lies behind begins
@@ -43,7 +43,7 @@ def _rise(outline, sheets, at, word):
     """
     for sheet in sheets:
         if sheet.told[0] == word:
-            forms = _forms_behind(outline, sheet, at)
+            forms = forms_behind(outline, sheet, at)
             for other in sheets:
                 corners = _corners_behind(outline, other, forms) if other.told[0] != word else []
                 if len(corners) > 0:

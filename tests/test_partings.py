@@ -282,6 +282,14 @@ class RefusedTest(unittest.TestCase):
         for change in bad:
             self.refuse(TRUCK, change)
 
+    def test_a_part_is_not_told_from_the_end(self):
+        for good in (made([raw(1, 1), LAMP]), made([LAMP]), made([raw(1, 1), made([raw(1, 1), LAMP])])):
+            for at in (-1, -2, len(good[5])):
+                self.refuse(good, ("join", 0, at))
+                self.refuse(good, ("part", 0, (at,)))
+            self.refuse(good, ("join", -1, 0))
+            self.refuse(good, ("part", -1, (0,)))
+
     def test_a_join_of_what_is_raw(self):
         self.refuse(TRUCK, ("join", 0, 1))
         self.refuse(LAMP, ("join", 0, 0))

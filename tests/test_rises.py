@@ -7,12 +7,14 @@ from fractions import Fraction
 from madeofhere.counts import is_of_here
 from madeofhere.errors import BadGood, BadNumber
 from madeofhere.goods import highs, lows, moves
-from madeofhere.rises import drop_by, lift_by, moody
+from madeofhere.outlines import Outline
+from madeofhere.rises import drop_by, forms_behind, lift_by, moody
+from madeofhere.sheets import coming_sheets
 from madeofhere.turns import here_turns
 from tests.cells import lines_of, slow_rise, words_at_point
 from tests.drawing import drawn_goods, drawn_prices, goods_at_the_bounds, lively_goods, lonely_goods
 from tests.samples import CART, GIFT, LAMP, ODD, TRUCK, chain, made, ratio, raw, wide
-from tests.slow import all_things, moving, with_share
+from tests.slow import all_things, form_value, moving, with_share
 
 GOODS = [LAMP, TRUCK, CART, GIFT, made([raw(1, 1)]), wide(10), chain(4, raw(1, 2))] + lonely_goods()
 TWO = [(steps, moving) for steps in (1, 2, 3, 4) for moving in (0, 1, 2)]
@@ -40,9 +42,25 @@ def moody_goods():
     return goods
 
 
+# Prices of one sheet and of another one above them meet on a border that is of one of them alone.
+EDGES = [
+    made([made([raw(0, 4, "away")], 3, 4, "here", (50, "own", "own"))], 3, 3, "away", (40, "own", "none")),
+    made([made([raw(0, 0, "away"), raw(0, 2, "away")], 0, 1, "here", (33, "own", "none"))], 1, 1, "away",
+         (50, "own", "own")),
+    made([made([made([raw(0, 1, "away")], 0, 1, "here", (20, "own", "own"))], 0, 0, "here", (20, "own", "none"))], 1, 1,
+         "away", (50, "own", "none")),
+    made([made([raw(0, 1)], 0, 2, "away", (20, "own", "none"))], 1, 1, "away", (50, "whole", "own")),
+    made([made([raw(0, 1), raw(0, 1, "away")], 0, 0, "here", (50, "own", "none"))], 1, 1, "away", (50, "own", "own")),
+]
+EDGES_OF_THREE = [
+    made([made([raw(0, 2, "away")], 0, 1, "here", (20, "own", "own"))], 1, 2, "away", (50, "own", "none")),
+    made([made([raw(0, 2, "away")], 1, 2, "here", (50, "own", "none"))], 1, 2, "away", (50, "whole", "none")),
+    made([made([raw(0, 1)], 0, 1, "away", (20, "own", "own"))], 1, 2, "away", (50, "own", "none")),
+]
 LIVELY = lively_goods(142, 10, 6, 7, TWO) + lively_goods(143, 3, 12, 10, TWO)
 MOODS = moody_goods()
 THREE = lively_goods(144, 5, 5, 6, [(1, 3), (2, 3)])
+SMALL = EDGES_OF_THREE + lively_goods(149, 12, 3, 3, [(2, 3)])
 WIDE = lively_goods(145, 3, 9, 10, [(3, 3), (4, 3)]) + goods_at_the_bounds(146, 3) + drawn_goods(147, 1, 6)
 
 
@@ -112,7 +130,7 @@ class CanTest(RisesTest):
 
     def test_against_lines_in_all_cells(self):
         many = {}
-        for good in GOODS + [MOODY, FALL, CLIMB, CORNER] + LIVELY + [good for good in MOODS if len(moves(good)) < 3]:
+        for good in GOODS + [MOODY, FALL, CLIMB, CORNER] + EDGES + LIVELY + MOODS:
             if len(moves(good)) < 3:
                 told, both = self.check(good, self.in_cells(good))
                 for kind in [*told] + ["both"] * bool(both):
@@ -121,7 +139,7 @@ class CanTest(RisesTest):
 
     def test_three_that_move_against_all_choices_of_forms(self):
         told = {}
-        for good in THREE:
+        for good in THREE + SMALL:
             words, both = self.check(good, lambda at, word: slow_rise(good, at, word) is not None)
             for kind in words:
                 told[kind] = told.get(kind, 0) + 1
@@ -138,6 +156,27 @@ class CanTest(RisesTest):
             _, both = self.check(good, lambda at, word: slow_rise(good, at, word) is not None)
             found += bool(both)
         self.assertGreater(found, 0)
+
+    def test_what_the_price_can_rise_to_from_each_sheet(self):
+        # At each point of each line: just what has some of the sheet below it is behind it. Every other point stands in
+        # the middle of many with the same words, some of which are below it.
+        border = 0
+        for good in EDGES + LIVELY[::3] + [good for good in MOODS if len(moves(good)) < 3][:6] + EDGES_OF_THREE:
+            outline = Outline(good)
+            for sheet in coming_sheets(outline, 0):
+                for at in range(len(moves(good))):
+                    rows = forms_behind(outline, sheet, at)
+                    for line in lines_of(good, at):
+                        below = False
+                        for k, point in enumerate(line):
+                            values = [form_value((*form[:len(point)], form[3]), point) for form, _ in rows]
+                            behind = all(value > 0 or (value == 0 and above == 0)
+                                         for value, (_, above) in zip(values, rows))
+                            has_words = words_at_point(good, point) == sheet.told
+                            self.assertIs(behind, below or (k % 2 == 1 and has_words))
+                            border += behind and 0 in values
+                            below = below or has_words
+        self.assertGreater(border, 100)
 
     def test_at_drawn_lines(self):
         chance = random.Random(148)
