@@ -113,7 +113,8 @@ def _numbers_by(wholes, made, change):
     inside = [number for number in range(many) if wholes[number] == made[step]]
     picked = [number for at in told for number in range(inside[at], _end_of(wholes, inside[at]))]
     first = picked[0]
-    return [*range(first), None, *picked, *[number for number in range(first, many) if number not in picked]]
+    behind = [number for number in range(first, many) if number not in picked]
+    return [*list(range(first)), None, *picked, *behind]
 
 
 def changes(good):

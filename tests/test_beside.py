@@ -270,7 +270,7 @@ class RefusedPaperTest(unittest.TestCase):
             bad += [rows[:at] + (rows[at],) + rows[at:] for at in range(len(rows))]
             bad += [rows[:at] + rows[at + 1:] + (rows[at],) for at in range(last)]
             bad += [rows[:at] + (rows[at + 1], rows[at]) + rows[at + 2:] for at in range(last)]
-            bad += [rows[::-1], (), (rows,)]
+            bad += [rows[::-1], (), (rows,), rows * 2, (None,) * 20000]
             same = [((0,) * len(rows[0][0]), (0,) * len(rows[0][1]), rows[0][2])]
             bad += [rows + tuple(same), tuple(same) + rows, rows[:-1] + tuple(same)]
             for told in bad:

@@ -263,6 +263,24 @@ class RefusedTest(unittest.TestCase):
                 for value, error, kept in wrong_values(name, function):
                     self.refuse(function, {**right, name: value}, error, kept)
 
+    def test_great_values(self):
+        deep = ()
+        for _ in range(19):
+            deep = (deep,)
+        listed = []
+        for _ in range(19):
+            listed = [listed]
+        for value in ((None,) * 20000, ["made"] * 20000, "made " * 4000, deep, listed, ((0, 1),) * 19999, -10 ** 60):
+            for function, names in CALLS.items():
+                right = rows_of(function, TRUCK)[0]
+                for name in names:
+                    if function is sures.do_bar and name == "thing":
+                        self.assertIs(function(**{**right, name: value}), False)
+                        continue
+                    with self.assertRaises(MakeError) as caught:
+                        function(**{**right, name: value})
+                    self.assertIn(type(caught.exception), [error for _, error, _ in wrong_values(name, function)])
+
     def test_the_first_wrong_argument_of_several(self):
         for function, names in CALLS.items():
             right = rows_of(function, TRUCK)[0]

@@ -192,6 +192,33 @@ class ValuesTest(unittest.TestCase):
         for name, node in nodes(ast.Attribute):
             self.assertNotEqual(node.attr, "sort", (name, node.lineno))
 
+    def test_ranges_and_the_like_are_iterated_at_once(self):
+        names = ("range", "zip", "enumerate", "reversed")
+        for name, tree in trees().items():
+            for parent in ast.walk(tree):
+                for child in ast.iter_child_nodes(parent):
+                    if isinstance(child, ast.Call) and ast.unparse(child.func) in names:
+                        self.assertTrue(self.is_iterated(parent, child), (name, child.lineno))
+
+    def is_iterated(self, parent, child):
+        """Whether a node iterates over a call in it at once."""
+        if isinstance(parent, (ast.For, ast.comprehension)):
+            return parent.iter is child
+        first = ("list", "tuple", "dict", "sorted", "sum", "any", "all", "enumerate", "zip", "combinations")
+        if isinstance(parent, ast.Call) and parent.args[0] is child:
+            inner = ast.unparse(child.func)
+            return ast.unparse(parent.func) in first + (("len", "reversed") if inner == "range" else ())
+        return False
+
+    def test_no_two_files_import_from_each_other(self):
+        wanted = {name: {node.module.split(".")[1] for node in ast.walk(tree)
+                         if isinstance(node, ast.ImportFrom) and node.module.startswith("madeofhere.")}
+                  for name, tree in trees().items()}
+        while wanted:
+            free = [name for name in wanted if not wanted[name]]
+            self.assertNotEqual(free, [], wanted)
+            wanted = {name: others - set(free) for name, others in wanted.items() if name not in free}
+
     def test_double_underscore_methods(self):
         may = {"__init__", "__eq__", "__len__", "__call__", "__contains__", "__enter__", "__exit__"}
         for name, node in nodes(ast.FunctionDef):

@@ -108,6 +108,41 @@ class CornersTest(unittest.TestCase):
             return meeting(picked) is not None
         return any(self.has_meeting(rows[at + 1:], many, picked + (row,)) for at, row in enumerate(rows))
 
+    def test_a_sheet_is_what_lies_between_its_corners(self):
+        chance = random.Random(24)
+        for good in GOODS + DRAWN + BOUNDS:
+            bounds = [thing[2:4] for thing in all_things(good)]
+            for words in all_words(good):
+                rows = forms(good, words)
+                points = [point_of(good, prices) for prices in corners(good, words)]
+                # What is mixed of corners is in the SHEET.
+                for _ in range(2 if points else 0):
+                    times = [chance.randint(0, 3) for _ in points]
+                    times[chance.randrange(len(times))] += 1
+                    mixed = [sum(one * price for one, price in zip(times, column)) / sum(times)
+                             for column in zip(*points)]
+                    self.assertGreaterEqual(min(form_value(row, mixed) for row in rows), 0)
+                # What is in the SHEET is beyond its corners to no side.
+                for prices in lows(good), highs(good), drawn_prices(chance, bounds):
+                    point = point_of(good, prices)
+                    if min(form_value(row, point) for row in rows) >= 0:
+                        for _ in range(3):
+                            side = [chance.randint(-5, 5) for _ in point] + [0]
+                            most = max(form_value(side, corner) for corner in points)
+                            self.assertLessEqual(form_value(side, point), most)
+
+    def test_no_corner_is_come_to_on_the_way_between_others(self):
+        for good in GOODS + DRAWN[::2] + BOUNDS:
+            for words in all_words(good):
+                points = [point_of(good, prices) for prices in corners(good, words)]
+                rows = forms(good, words)
+                for point in points:
+                    for other in points:
+                        if other != point:
+                            # Ahead of the end that the corner is, the way would have to go on behind it.
+                            behind = [price + (price - more) / 10 ** 6 for price, more in zip(point, other)]
+                            self.assertLess(min(form_value(row, behind) for row in rows), 0)
+
     def test_ascending_as_numbers(self):
         unlike = 0
         for good in [THIRDS] + GOODS + DRAWN + BOUNDS:
