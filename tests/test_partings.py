@@ -12,7 +12,7 @@ from madeofhere.goods import highs, lows, need_good
 from madeofhere.partings import (
     best_change, changed, changed_prices, changes, harming, helping, helping_prices, making_sure,
 )
-from madeofhere.portions import least_portion
+from madeofhere.portions import least_portion, most_ever, most_sure
 from madeofhere.sures import is_sure
 from tests.cells import as_told_once, cell_points, point_above, sides, words_at_point, words_of, zero_rows
 from tests.drawing import drawn_goods, drawn_prices, goods_at_the_bounds, lively_goods, lonely_goods
@@ -23,8 +23,11 @@ GOODS = [LAMP, TRUCK, CART, GIFT, made([raw(1, 1)]), wide(10), chain(4, raw(1, 2
 TWO = [(steps, moving) for steps in (1, 2, 3, 4) for moving in (0, 1, 2)]
 LIVELY = lively_goods(121, 4, 6, 7, TWO) + lively_goods(122, 1, 12, 9, TWO)
 THREE = lively_goods(123, 2, 6, 5, [(1, 3), (2, 3)])
+# GOODS of which a little more is asked for than they ever have of here, and such of which just so much is.
+TURNING = [with_share(good, min(100, most_ever(good) + 1)) for good in lively_goods(129, 8, 6, 6, TWO)]
+TURNING += [with_share(good, most_sure(good)) for good in lively_goods(130, 8, 6, 6, TWO)]
 MANY = drawn_goods(124, 2, 9, 10) + goods_at_the_bounds(125, 3) + lively_goods(126, 3, 9, 10) + lonely_goods()
-ALL = GOODS + LIVELY + THREE + MANY
+ALL = GOODS + LIVELY + THREE + TURNING + MANY
 
 # Of the first two parts together enough is of here, so that they count whole where they are a step of their own.
 MIXED = made([raw(3, 3), raw(1, 1, "away"), raw(4, 9, "away")], 0, 0, "away", (50, "whole", "none"))
@@ -357,10 +360,10 @@ class TurnedTest(unittest.TestCase):
 
     def test_against_all_cells(self):
         found = {}
-        for good in GOODS[:4] + LIVELY:
+        for good in GOODS[:4] + LIVELY + TURNING:
             for pair in self.check(good, lambda change, come: turned_words(good, change, come)):
                 found[pair] = found.get(pair, 0) + 1
-        self.assertGreater(min(found[0, 1], found[1, 0]), 5)
+        self.assertGreater(min(found[0, 1], found[1, 0]), 10)
 
     def test_three_that_move_against_all_choices_of_forms(self):
         for good in THREE:
